@@ -1,0 +1,1 @@
+"""Small stories that are played, and of which every hint is proved."""

@@ -1,0 +1,105 @@
+"""The one list that is handed in and the one that is given back."""
+
+import unittest
+
+from provedhints.stories import answers
+from tests.helper import (CAN, FAR, HINT, NOW, RESTART, UNDO, act, action, ask, bad, good, line_of, some_story, source,
+                          story, turn)
+
+WHOLE = [NOW, story([3, 2], [0, 0]), action([], [0, 1, 1]), action([0, 0, 1], [1, 1, 1]), turn([0, 0, 2], [1, 0, 0]),
+         good([0, 0, 2, 1, 0, 0]), bad([0, 0, 2, 1, 0, 1]), act(0), HINT, CAN, act(1), UNDO, act(9), RESTART, NOW,
+         story([1], [0]), action([0] * 1030, [FAR] * 1030)]
+
+
+class Unchanged(list):
+    """A list that doesn't let itself be changed, not for a while either."""
+
+    def refuse(self, *given, **named):
+        raise AssertionError("what is handed in is changed")
+
+    append = extend = insert = pop = remove = clear = sort = reverse = refuse
+    __setitem__ = __delitem__ = __iadd__ = __imul__ = refuse
+
+
+class Interface(unittest.TestCase):
+    def test_a_line_told_number_by_number(self):
+        calls = [8, 0, 2, 3, 2, 2, 0, 0, 1, 0, 3, 0, 1, 1, 2, 3, 0, 0, 1, 3, 1, 1, 1, 3, 3, 0, 0, 2, 4, 3, 0, 0, 0,
+                 5, 0, 9, 8]
+        self.assertEqual(answers(calls), [1, -2, 2, 0, 6, 2, 0, 0, 2, 0, 0, 2, 0, 0, 2, 0, 0, 1, -5, 1, 0,
+                                          5, 0, 0, 2, 0, 0])
+
+    def test_each_call_is_read_to_its_end(self):
+        for call in WHOLE:
+            found = ask(story([2], [0]), call, NOW, NOW)
+            self.assertEqual(len(found), 4)
+            self.assertEqual(found[2], found[3])
+
+    def test_how_many_numbers_stand_before_each_answer(self):
+        back = answers(line_of(WHOLE))
+        self.assertEqual(back[:5], [1, -2, 2, 0, 6])
+        place = count = 0
+        while place < len(back):
+            self.assertTrue(back[place] >= 1)
+            self.assertTrue(back[place + 1] == 0 or back[place] == 1)
+            place += back[place] + 1
+            count += 1
+        self.assertEqual((place, count), (len(back), len(WHOLE)))
+
+    def test_whole_numbers_in_a_list(self):
+        back = answers(line_of(WHOLE))
+        self.assertIs(type(back), list)
+        for number in back:
+            self.assertIs(type(number), int)
+
+    def test_what_is_handed_in_is_not_changed(self):
+        calls = line_of(WHOLE)
+        kept = list(calls)
+        answers(calls)
+        self.assertEqual(calls, kept)
+        for seed in range(50):
+            sizes, told = some_story(source(seed))
+            calls = line_of(told + [HINT, act(0), HINT, UNDO, RESTART])
+            guarded = Unchanged(calls)
+            self.assertEqual(answers(guarded), answers(calls))
+            self.assertEqual(list(guarded), calls)
+
+    def test_what_is_given_back_is_new(self):
+        calls = line_of(WHOLE)
+        first = answers(calls)
+        kept = list(first)
+        first.clear()
+        self.assertEqual(answers(calls), kept)
+
+    def test_nothing_is_kept_from_one_time_to_the_next(self):
+        wanted = answers(line_of(WHOLE))
+        for between in ([NOW], [story([2], [0]), action([], []), good([]), act(0)], WHOLE):
+            answers(line_of(between))
+            self.assertEqual(answers(NOW), [1, -2])
+            self.assertEqual(answers(line_of(WHOLE)), wanted)
+
+    def test_as_long_as_a_line_may_be(self):
+        found = ask(*[action([0] * 40, [0] * 41) for k in range(200)])
+        self.assertEqual(found, [[-1]] * 200)
+        long = [0] * 1030
+        found = ask(*[action(long, long) for k in range(8)], *[NOW for k in range(192)])
+        self.assertEqual(found, [[-1]] * 8 + [[-2]] * 192)
+
+    def test_200_calls_on_the_greatest_stories(self):
+        sizes = [8, 8, 8, 2]
+        calls = [story(sizes, [0, 0, 0, 0])] + [action([v % 4, 1, 1], [v % 4, 1, 1]) for v in range(16)]
+        calls += [turn([v % 4, 0, 1], [(v + 1) % 4, 1, 1]) for v in range(8)] + [good([0, 0, 7, 1, 0, 7])]
+        calls += [HINT, NOW] * 87
+        found = ask(*calls)
+        self.assertEqual(len(found), 200)
+        self.assertEqual(found[26::2], [found[26]] * 87)
+        self.assertEqual(found[27::2], [[0, 0, 0, 0, 0, 0, 0]] * 87)
+
+    def test_no_story_at_the_beginning(self):
+        calls = [action([], []), turn([], []), good([]), bad([]), act(0), RESTART, UNDO, NOW, CAN, HINT]
+        for call in calls:
+            self.assertEqual(ask(call), [[-2]])
+        self.assertEqual(ask(*calls), [[-2]] * 10)
+
+
+if __name__ == "__main__":
+    unittest.main()
