@@ -8,11 +8,13 @@ NONE_DUE = 0
 OUT_OF_RANGE = -1
 NO_STORY = -2
 NO_SUCH_ACTION = -3
+NO_SUCH_STATE = -4
 AT_AN_END = -5
 CANNOT_BE_DONE = -6
 AS_MANY_AS_MAY_BE = -7
 NOT_RIGHT = -8
 NOTHING_TO_UNDO = -9
+LOST = -10
 
 MOST_VARIABLES = 8
 LEAST_SIZE = 2
@@ -20,6 +22,11 @@ GREATEST_SIZE = 8
 MOST_STATES = 1024
 MOST_RULE_NUMBERS = 24
 GREATEST_ACTION = 15
+GREATEST_STATE = 1023
+GREATEST_VARIABLE = 7
+GREATEST_VALUE = 7
+LONGEST_TABLE = 1024
+GREATEST_IN_TABLE = 1025
 
 
 def sizes_right(sizes):
@@ -79,3 +86,43 @@ def undo_refusal(story, past):
     if len(past) == 0:
         return NOTHING_TO_UNDO
     return NONE_DUE
+
+
+# For all calls that name states: each of them is looked at for its range before the first for being there.
+def states_refusal(story, named):
+    for n in named:
+        if not 0 <= n <= GREATEST_STATE:
+            return OUT_OF_RANGE
+    if len(story.sizes) == 0:
+        return NO_STORY
+    for n in named:
+        if n >= len(story.kinds):
+            return NO_SUCH_STATE
+    return NONE_DUE
+
+
+def table_refusal(story, table):
+    if len(table) > LONGEST_TABLE:
+        return OUT_OF_RANGE
+    for number in table:
+        if not 0 <= number <= GREATEST_IN_TABLE:
+            return OUT_OF_RANGE
+    return call_refusal(story)
+
+
+def lost_refusal(story, now):
+    if len(story.sizes) == 0:
+        return NO_STORY
+    if story.ranks()[now] == 0:
+        return LOST
+    return NONE_DUE
+
+
+def must_refusal(story, now, v, x):
+    if not 0 <= v <= GREATEST_VARIABLE or not 0 <= x <= GREATEST_VALUE:
+        return OUT_OF_RANGE
+    if len(story.sizes) == 0:
+        return NO_STORY
+    if v >= len(story.sizes) or x >= story.sizes[v]:
+        return NOT_RIGHT
+    return lost_refusal(story, now)

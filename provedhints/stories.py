@@ -13,6 +13,16 @@ UNDO = 7
 NOW = 8
 CAN = 9
 HINT = 10
+WAY = 11
+RANK = 12
+CHOICE = 13
+SURVEY = 14
+RANKS = 15
+CHECK = 16
+DISTANCE = 17
+MUST = 18
+WAYS = 19
+STATE = 20
 
 
 class Reader:
@@ -35,10 +45,7 @@ class Reader:
         return row
 
 
-# The calls with two rows.
-def answer_telling(call, game, reader):
-    first_row = reader.read_row()
-    second_row = reader.read_row()
+def answer_two_rows(call, game, first_row, second_row):
     if call == STORY:
         return game.begin(first_row, second_row)
     if call == ACTION:
@@ -46,7 +53,30 @@ def answer_telling(call, game, reader):
     return game.tell_turn(first_row, second_row)
 
 
-# The calls with nothing behind their number.
+def answer_row(call, game, row):
+    if call == GOOD:
+        return game.tell_good(row)
+    if call == BAD:
+        return game.tell_bad(row)
+    return game.check(row)
+
+
+def answer_number(call, game, number):
+    if call == ACT:
+        return game.act(number)
+    if call == RANK:
+        return game.rank(number)
+    if call == CHOICE:
+        return game.choice(number)
+    return game.tell_state(number)
+
+
+def answer_two_numbers(call, game, first_number, second_number):
+    if call == DISTANCE:
+        return game.distance(first_number, second_number)
+    return game.must(first_number, second_number)
+
+
 def answer_plain(call, game):
     if call == RESTART:
         return game.restart()
@@ -58,19 +88,30 @@ def answer_plain(call, game):
         return game.can()
     if call == HINT:
         return game.hint()
-    raise NotImplementedError(f"call {call}")
+    if call == WAY:
+        return game.way()
+    if call == SURVEY:
+        return game.survey()
+    if call == RANKS:
+        return game.tell_ranks()
+    return game.ways()
 
 
+# What stands behind a call's number is read first, so that the next call is found whatever is answered.
 def answer_call(game, reader):
     call = reader.read_number()
-    if call == STORY or call == ACTION or call == TURN:
-        return answer_telling(call, game, reader)
-    if call == GOOD:
-        return game.tell_good(reader.read_row())
-    if call == BAD:
-        return game.tell_bad(reader.read_row())
-    if call == ACT:
-        return game.act(reader.read_number())
+    if call in (STORY, ACTION, TURN):
+        first_row = reader.read_row()
+        second_row = reader.read_row()
+        return answer_two_rows(call, game, first_row, second_row)
+    if call in (GOOD, BAD, CHECK):
+        return answer_row(call, game, reader.read_row())
+    if call in (ACT, RANK, CHOICE, STATE):
+        return answer_number(call, game, reader.read_number())
+    if call in (DISTANCE, MUST):
+        first_number = reader.read_number()
+        second_number = reader.read_number()
+        return answer_two_numbers(call, game, first_number, second_number)
     return answer_plain(call, game)
 
 

@@ -28,6 +28,12 @@ class Story:
         self.good_count = 0
         self.bad_count = 0
         # Empty for as long as nobody has asked since the last change.
+        self.known_ahead = []
+        self.known_ranks = []
+
+    # An action, a turn rule or an end that is new may change what leads where, and all steps with it.
+    def forget(self):
+        self.known_ahead = []
         self.known_ranks = []
 
     def state_after(self, conditions, effects, n, otherwise):
@@ -39,13 +45,13 @@ class Story:
     def add_action(self, conditions, effects):
         after = [self.state_after(conditions, effects, n, NOWHERE) for n in range(len(self.kinds))]
         self.effected.append(after)
-        self.known_ranks = []
+        self.forget()
         return len(self.effected) - 1
 
     # The new rule is the last one, so it goes on with what the others made of a state.
     def add_turn(self, conditions, effects):
         self.turned = [self.state_after(conditions, effects, n, n) for n in self.turned]
-        self.known_ranks = []
+        self.forget()
         self.turn_count = self.turn_count + 1
         return self.turn_count - 1
 
@@ -57,7 +63,7 @@ class Story:
 
     def add_good(self, conditions):
         self.kinds = [self.kind_with_good(conditions, n) for n in range(len(self.kinds))]
-        self.known_ranks = []
+        self.forget()
         self.good_count = self.good_count + 1
         return self.good_count - 1
 
@@ -68,7 +74,7 @@ class Story:
 
     def add_bad(self, conditions):
         self.kinds = [self.kind_with_bad(conditions, n) for n in range(len(self.kinds))]
-        self.known_ranks = []
+        self.forget()
         self.bad_count = self.bad_count + 1
         return self.bad_count - 1
 
@@ -81,9 +87,18 @@ class Story:
     def leads_to(self, n, a):
         return self.turned[self.effected[a][n]]
 
+    # One state an action: a state that several actions lead to stands there several times.
+    def ahead_of(self, n):
+        return [self.leads_to(n, a) for a in self.actions_in(n)]
+
+    def states_ahead(self):
+        if len(self.known_ahead) == 0:
+            self.known_ahead = [self.ahead_of(n) for n in range(len(self.kinds))]
+        return self.known_ahead
+
     def ranks(self):
         if len(self.known_ranks) == 0:
-            self.known_ranks = ranks_of(self)
+            self.known_ranks = ranks_of(self.kinds, self.states_ahead())
         return self.known_ranks
 
     # Asked only of a state that goes on and isn't lost: there some action leads on.

@@ -1,5 +1,6 @@
 """What the tests share: calls as lists, answers taken apart, and a plain model of the document to compare with."""
 
+import itertools
 import random
 
 from provedhints.stories import answers
@@ -40,6 +41,34 @@ UNDO = [7]
 NOW = [8]
 CAN = [9]
 HINT = [10]
+WAY = [11]
+SURVEY = [14]
+RANKS = [15]
+WAYS = [19]
+
+
+def rank(n):
+    return [12, n]
+
+
+def choice(a):
+    return [13, a]
+
+
+def check(table):
+    return [16] + row(table)
+
+
+def distance(n, m):
+    return [17, n, m]
+
+
+def must(v, x):
+    return [18, v, x]
+
+
+def state(n):
+    return [20, n]
 
 
 def line_of(calls):
@@ -75,6 +104,13 @@ def numbered(sizes, values):
     return values[0] + sizes[0] * numbered(sizes[1:], values[1:])
 
 
+def long_way():
+    """1024 states, and one action that counts through all of them: from state 1, the first, 1023 actions to state 0."""
+    return [story([8, 8, 8, 2], [1, 0, 0, 0]), action([], [0, 1, 1]), turn([0, 0, 0], [1, 1, 1]),
+            turn([0, 0, 0, 1, 0, 0], [2, 1, 1]), turn([0, 0, 0, 1, 0, 0, 2, 0, 0], [3, 1, 1]),
+            good([0, 0, 0, 1, 0, 0, 2, 0, 0, 3, 0, 0])]
+
+
 def threes(numbers):
     return [tuple(numbers[k:k + 3]) for k in range(0, len(numbers), 3)]
 
@@ -88,28 +124,72 @@ class Model:
     def answer(self, call):
         number = call[0]
         rows, rest = [], call[1:]
-        if number <= 4:
+        if number <= 4 or number == 16:
             while rest:
                 rows.append(rest[1:1 + rest[0]])
                 rest = rest[1 + rest[0]:]
-            if number == 0:
-                return self.story(rows[0], rows[1])
+        if number == 0:
+            return self.story(rows[0], rows[1])
+        if number <= 4:
             return self.rule(number, rows[0], rows[1] if number <= 2 else [])
-        if number == 5:
-            return self.act(call[1])
+        due = self.due(number, rows[0] if rows else rest)
+        if due:
+            return [max(due)]
+        return self.answered(number, rows[0] if rows else rest)
+
+    def due(self, number, given):
+        """All refusals that are due in the calls 5 to 20."""
+        ranges = {5: (15,), 12: (1023,), 13: (15,), 17: (1023, 1023), 18: (7, 7), 20: (1023,), 16: (1025,) * len(given)}
+        found = [-1 for x, most in zip(given, ranges.get(number, ())) if x < 0 or x > most]
+        if number == 16 and len(given) > 1024:
+            found.append(-1)
         if self.sizes is None:
-            return [-2]
+            return found + [-2]
+        if number in (5, 13):
+            found += [-3] * (given[0] not in range(len(self.lists[1]))) + [-5] * (self.kind(self.now) != 0)
+            found += [-6] * (given[0] not in self.can(self.now))
+        if number in (12, 17, 20) and any(n not in range(len(self.states())) for n in given):
+            found.append(-4)
+        if number == 7 and not self.past:
+            found.append(-9)
+        if number == 18 and (given[0] not in range(len(self.sizes)) or given[1] not in range(self.sizes[given[0]])):
+            found.append(-8)
+        if number in (11, 18, 19) and self.steps(self.now) is None:
+            found.append(-10)
+        return found
+
+    def answered(self, number, given):
+        if number == 5:
+            return self.act(given[0])
         if number == 6:
             self.now, self.past = self.first, []
         if number == 7:
-            if not self.past:
-                return [-9]
             self.now = self.past.pop()
+        if number in (6, 7, 8):
+            return self.told(self.now)
         if number == 9:
             return [0] + self.can(self.now)
         if number == 10:
-            return self.hint()
-        return self.told()
+            return self.hint(self.now)
+        if number == 11:
+            return [0] + self.way()
+        if number == 12:
+            return [0, self.more(self.steps(self.states()[given[0]]))]
+        if number == 13:
+            return self.choice(given[0])
+        if number == 14:
+            return self.survey()
+        if number == 15:
+            return [0] + self.table()
+        if number == 16:
+            return [0, 1 if self.accepts(given) else 0]
+        if number == 17:
+            return [0, self.more(self.distance(self.states()[given[0]], self.states()[given[1]]))]
+        if number == 18:
+            return [0, 1 if self.must(given[0], given[1]) else 0]
+        if number == 19:
+            return [0, self.ways() % 1000000007]
+        return self.told(self.states()[given[0]])
 
     def story(self, sizes, values):
         if not 1 <= len(sizes) <= 8 or len(values) != len(sizes) or any(s < 2 or s > 8 for s in sizes):
@@ -123,6 +203,7 @@ class Model:
         self.now = self.first = tuple(values)
         self.past = []
         self.lists = {1: [], 2: [], 3: [], 4: []}
+        self.known = {}
         return [0, states]
 
     def rule(self, number, conditions, effects):
@@ -143,6 +224,7 @@ class Model:
             if v not in variables or op not in (0, 1, 2) or x not in (variables if op == 2 else range(8)):
                 return [-8]
         there.append((threes(conditions), threes(effects)))
+        self.known = {}
         return [0, len(there) - 1]
 
     def hold(self, conditions, state):
@@ -171,29 +253,34 @@ class Model:
                 state = self.done(effects, state)
         return state
 
-    def told(self):
-        return [0, numbered(self.sizes, self.now), self.kind(self.now)] + list(self.now)
+    def told(self, state):
+        return [0, numbered(self.sizes, state), self.kind(state)] + list(state)
 
     def act(self, a):
-        if not 0 <= a <= 15:
-            return [-1]
-        if self.sizes is None:
-            return [-2]
-        if a >= len(self.lists[1]):
-            return [-3]
-        if self.kind(self.now) != 0:
-            return [-5]
-        if a not in self.can(self.now):
-            return [-6]
         self.past = (self.past + [self.now])[-200:]
         self.now = self.leads(self.now, a)
-        return self.told()
+        return self.told(self.now)
+
+    def states(self):
+        """By number: variable 0 changes first."""
+        return [values[::-1] for values in itertools.product(*[range(size) for size in self.sizes[::-1]])]
+
+    def more(self, number):
+        return 0 if number is None else number + 1
 
     def steps(self, state):
-        """Forwards, all rows of actions at once, until a good end is met or no new state comes."""
+        if state not in self.known:
+            self.known[state] = self.least(state, lambda other: self.kind(other) == 1)
+        return self.known[state]
+
+    def distance(self, state, other):
+        return self.least(state, lambda met: met == other)
+
+    def least(self, state, wanted):
+        """Forwards, all rows of actions at once, until a wanted state is met or no new state comes."""
         seen, layer, steps = {state}, [state], 0
         while layer:
-            if any(self.kind(s) == 1 for s in layer):
+            if any(wanted(s) for s in layer):
                 return steps
             ahead = []
             for s in layer:
@@ -205,15 +292,78 @@ class Model:
             layer, steps = ahead, steps + 1
         return None
 
-    def hint(self):
-        steps = self.steps(self.now)
+    def hint(self, state):
+        steps = self.steps(state)
         if steps is None:
             return [0, 0]
         if steps == 0:
             return [0, 1, 0]
-        for a in self.can(self.now):
-            if self.steps(self.leads(self.now, a)) == steps - 1:
+        for a in self.can(state):
+            if self.steps(self.leads(state, a)) == steps - 1:
                 return [0, 1, steps, a]
+
+    def way(self):
+        state, found = self.now, []
+        while len(self.hint(state)) == 4:
+            found.append(self.hint(state)[3])
+            state = self.leads(state, found[-1])
+        return found
+
+    def choice(self, a):
+        state = self.leads(self.now, a)
+        back = 0 if self.distance(state, self.now) is None else 1
+        return [0, numbered(self.sizes, state), self.more(self.steps(self.now)), self.more(self.steps(state)),
+                self.kind(state), back]
+
+    def survey(self):
+        met = [state for state in self.states() if self.distance(self.first, state) is not None]
+        kinds = [(self.kind(state), self.steps(state) is None) for state in met]
+        return [0, len(met), kinds.count((1, False)), kinds.count((2, True)), kinds.count((0, False)),
+                kinds.count((0, True))]
+
+    def table(self):
+        return [self.more(self.steps(state)) for state in self.states()]
+
+    def accepts(self, table):
+        """The checker, word by word."""
+        states = self.states()
+        if len(table) != len(states):
+            return False
+        for state, r in zip(states, table):
+            ahead = [table[numbered(self.sizes, self.leads(state, a))] for a in self.can(state)]
+            if self.kind(state) == 1:
+                right = r == 1
+            elif r == 0:
+                right = all(number == 0 for number in ahead)
+            else:
+                right = r != 1 and r - 1 in ahead and all(number == 0 or number >= r - 1 for number in ahead)
+            if not right:
+                return False
+        return True
+
+    def must(self, v, x):
+        """By all pairs of a state and whether the value has been met on a row that leads to it."""
+        seen = [(self.now, self.now[v] == x)]
+        for state, met in seen:
+            if self.kind(state) == 1 and not met:
+                return False
+            for a in self.can(state):
+                t = self.leads(state, a)
+                if (t, met or t[v] == x) not in seen:
+                    seen.append((t, met or t[v] == x))
+        return True
+
+    def ways(self):
+        """All rows of so many actions, counted by the states that they lead to."""
+        rows = {self.now: 1}
+        for k in range(self.steps(self.now)):
+            ahead = {}
+            for state, count in rows.items():
+                for a in self.can(state):
+                    t = self.leads(state, a)
+                    ahead[t] = ahead.get(t, 0) + count
+            rows = ahead
+        return sum(count for state, count in rows.items() if self.kind(state) == 1)
 
 
 def some_conditions(rng, sizes, most, least=0):
@@ -239,7 +389,7 @@ def some_end(rng, sizes, most):
 
 
 def some_sizes(rng, most_states):
-    sizes = [rng.randint(2, 8)]
+    sizes = [rng.randint(2, min(8, most_states))]
     while len(sizes) < 8 and rng.random() < 0.75:
         sizes.append(rng.choice((2, 2, 2, 3, 3, 4, 5, 8)))
     states = 1

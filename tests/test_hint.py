@@ -2,7 +2,7 @@
 
 import unittest
 
-from tests.helper import (HINT, NOW, RESTART, UNDO, act, action, ask, bad, good, last, story, turn)
+from tests.helper import (HINT, NOW, RESTART, UNDO, act, action, ask, bad, good, last, long_way, story, turn)
 
 
 class Hint(unittest.TestCase):
@@ -60,10 +60,7 @@ class Hint(unittest.TestCase):
         self.assertEqual(last(*calls, turn([0, 0, 3], [0, 0, 0]), HINT), [0, 0])
 
     def test_a_long_way(self):
-        sizes = [8, 8, 8, 2]
-        calls = [story(sizes, [1, 0, 0, 0]), action([], [0, 1, 1]), turn([0, 0, 0], [1, 1, 1]),
-                 turn([0, 0, 0, 1, 0, 0], [2, 1, 1]), turn([0, 0, 0, 1, 0, 0, 2, 0, 0], [3, 1, 1]),
-                 good([0, 0, 0, 1, 0, 0, 2, 0, 0, 3, 0, 0])]
+        calls = long_way()
         self.assertEqual(last(*calls, HINT), [0, 1, 1023, 0])
         self.assertEqual(ask(*calls, act(0), HINT, UNDO, HINT)[6:],
                          [[0, 2, 0, 2, 0, 0, 0], [0, 1, 1022, 0], [0, 1, 0, 1, 0, 0, 0], [0, 1, 1023, 0]])
