@@ -94,7 +94,9 @@ def answer_plain(call, game):
         return game.survey()
     if call == RANKS:
         return game.tell_ranks()
-    return game.ways()
+    if call == WAYS:
+        return game.ways()
+    raise ValueError(f"no call {call}")
 
 
 # What stands behind a call's number is read first, so that the next call is found whatever is answered.

@@ -117,6 +117,10 @@ class Interface(unittest.TestCase):
         failed, tried = doctest.testfile(str(readme), module_relative=False, encoding="utf-8")
         self.assertEqual((failed, tried), (0, 3))
 
+    def test_what_is_no_call_is_not_taken_for_one(self):
+        for call in (-1, 21, FAR):
+            self.assertRaises(ValueError, answers, [call])
+
     def test_no_story_at_the_beginning(self):
         calls = [action([], []), turn([], []), good([]), bad([]), act(0), RESTART, UNDO, NOW, CAN, HINT, WAY, rank(0),
                  choice(0), SURVEY, RANKS, check([]), distance(0, 0), must(0, 0), WAYS, state(0)]
